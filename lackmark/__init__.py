@@ -1,0 +1,1 @@
+"""Lackmark: programs that go through rows in which a number stands for nothing."""
