@@ -1,7 +1,7 @@
 """Data: rows of numbers and of nothing, one behind the other."""
 
 from lackmark.errors import BadData, BadNumber, BadRow
-from lackmark.kinds import is_between, is_integer, is_number_or_none
+from lackmark.kinds import are_numbers_or_none, is_between, is_integer
 
 MOST_ROWS = 300
 
@@ -114,9 +114,7 @@ def rows_for(width, top):
 
 def is_row(thing, width):
     """Say whether a thing, whatever it is, is a row for so many columns."""
-    if not isinstance(thing, tuple) or len(thing) != width:
-        return False
-    return all([is_number_or_none(worth) for worth in thing])
+    return are_numbers_or_none(thing, width)
 
 
 def check_data(thing):

@@ -11,6 +11,26 @@ def is_between(thing, least, most):
     return is_integer(thing) and least <= thing <= most
 
 
-def is_number_or_none(thing):
-    """Say whether a thing, whatever it is, is a number from 0 to 9, or None."""
-    return thing is None or is_between(thing, 0, 9)
+def is_number_or_none(thing, most=9):
+    """Say whether a thing, whatever it is, is a number up to the greatest one, or None."""
+    return thing is None or is_between(thing, 0, most)
+
+
+def are_numbers_or_none(thing, many, most=9):
+    """Say whether a thing, whatever it is, is a tuple of so many numbers up to the greatest one, or Nones."""
+    if not isinstance(thing, tuple) or len(thing) != many:
+        return False
+    return all([is_number_or_none(worth, most) for worth in thing])
+
+
+def told_apart(thing):
+    """Return a thing with a word for each boolean in it, as Python takes booleans for the integers 0 and 1."""
+    if isinstance(thing, bool):
+        return str(thing)
+    if isinstance(thing, tuple):
+        return tuple([told_apart(part) for part in thing])
+    if isinstance(thing, list):
+        return [told_apart(part) for part in thing]
+    if isinstance(thing, dict):
+        return {told_apart(key): told_apart(worth) for key, worth in thing.items()}
+    return thing

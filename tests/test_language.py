@@ -141,6 +141,14 @@ class TestLanguage(unittest.TestCase):
             if "__getitem__" in names:
                 self.assertIn("__iter__", names, (path, node.name))
 
+    def test_l5_sorted_min_and_max(self):
+        # Data have an order of their own, so that these take nothing but what is plainly numbers or strings.
+        for path, node in self.of_kind(ast.Call):
+            if isinstance(node.func, ast.Name) and node.func.id in ("sorted", "min", "max"):
+                found = [ast.unparse(part) for part in node.args] + [ast.unparse(part) for part in node.keywords]
+                plain = r"^(\[?(len|int|ord|str|repr)\(|\d+$|range\(|key=(len|int|str)$)"
+                self.assertTrue(any(re.match(plain, text) for text in found), (path, node.lineno))
+
     def test_l6_l7_statements_and_expressions(self):
         for path, node in self.nodes:
             self.assertNotIsInstance(node, NEVER_NODES, (path, getattr(node, "lineno", None)))
@@ -157,6 +165,46 @@ class TestLanguage(unittest.TestCase):
             rest = [arg for arg in [node.args.vararg, node.args.kwarg] if arg is not None]
             for arg in node.args.posonlyargs + node.args.args + node.args.kwonlyargs + rest:
                 self.assertNotIn(arg.arg, every, (path, node.lineno))
+
+    def test_l15_names_of_classes_and_imports(self):
+        for path, tree in self.trees.items():
+            taken = {node.name for node in tree.body if isinstance(node, ast.ClassDef)}
+            taken |= {alias.name for node in tree.body for alias in getattr(node, "names", [])}
+            for node in ast.walk(tree):
+                if isinstance(node, ast.arg) or (isinstance(node, ast.Name) and isinstance(node.ctx, ast.Store)):
+                    self.assertNotIn(getattr(node, "id", None) or getattr(node, "arg", None), taken, path)
+
+    def test_each_import_is_used(self):
+        for path, tree in self.trees.items():
+            used = {node.id for node in ast.walk(tree) if isinstance(node, ast.Name)}
+            names = {alias.name for node in tree.body for alias in getattr(node, "names", [])}
+            self.assertLessEqual(names, used, path)
+
+    def test_l23_generators(self):
+        makers = {node.name for _, node in self.of_kind(ast.FunctionDef)
+                  if any(isinstance(part, (ast.Yield, ast.YieldFrom)) for part in ast.walk(node))}
+        self.assertEqual(makers, {"walk"})
+        at_once = "list tuple dict sorted sum any all enumerate zip".split()
+        for path, tree in self.trees.items():
+            fine = {id(node.iter.func) for node in ast.walk(tree) if isinstance(node, (ast.For, ast.comprehension))
+                    and isinstance(node.iter, ast.Call)}
+            fine |= {id(part.func) for node in ast.walk(tree) if isinstance(node, ast.Call)
+                     and isinstance(node.func, ast.Name) and node.func.id in at_once
+                     for part in node.args if isinstance(part, ast.Call)}
+            for node in ast.walk(tree):
+                if isinstance(node, ast.Name) and node.id in makers:
+                    self.assertIn(id(node), fine, (path, node.lineno))
+
+    def test_l23_not_kept(self):
+        for path, node in self.of_kind(ast.Assign, ast.Return):
+            value = node.value
+            if isinstance(value, ast.Call) and isinstance(value.func, ast.Name):
+                self.assertNotIn(value.func.id, ["zip", "enumerate", "reversed", "map", "iter"], (path, node.lineno))
+
+    def test_l24_sets_are_not_kept_or_iterated(self):
+        for path, node in self.of_kind(ast.Assign, ast.Return, ast.For, ast.comprehension):
+            part = node.iter if isinstance(node, (ast.For, ast.comprehension)) else node.value
+            self.assertNotIsInstance(part, (ast.Set, ast.SetComp), path)
 
     def test_l12_l17_names(self):
         for path, node in self.nodes:
