@@ -20,7 +20,11 @@ def are_numbers_or_none(thing, many, most=9):
     """Say whether a thing, whatever it is, is a tuple of so many numbers up to the greatest one, or Nones."""
     if not isinstance(thing, tuple) or len(thing) != many:
         return False
-    return all([is_number_or_none(worth, most) for worth in thing])
+    for worth in thing:
+        # This is asked of each row and each stand, so that it does without calls of other functions.
+        if worth is not None and (not isinstance(worth, int) or isinstance(worth, bool) or not 0 <= worth <= most):
+            return False
+    return True
 
 
 def told_apart(thing):

@@ -3,7 +3,8 @@
 from lackmark.data import Data
 from lackmark.errors import BadData, BadNumber, BadProgram
 from lackmark.kinds import are_numbers_or_none, is_between, is_number_or_none
-from lackmark.marks import COLUMNS, Marks, REGISTERS
+from lackmark.marks import Marks
+from lackmark.plainly import plain_move, plain_works, written_with
 
 PARTS = ("TOP", "MARKS", "BEGIN", "STEPS")
 MOST_TOP = 4
@@ -83,9 +84,9 @@ class Program:
     def __call__(self, data):
         """Return the list of the lists of what is told plainly in each row."""
         check_data_for(self, data)
-        contents, every = written_with(self._marks.registers, self._begin), []
+        contents, works, every = written_with(self._marks.registers, self._begin), plain_works(self), []
         for row in data.rows:
-            contents, told = plain_row(self, contents, row)
+            contents, told = plain_move(works, written_with(self._marks.columns, row), contents)
             every.append(told)
         return every
 
@@ -122,92 +123,6 @@ def are_data_for(program, thing):
 def is_row_for(program, thing):
     """Say whether a thing, whatever it is, is a row for a program."""
     return are_numbers_or_none(thing, len(program.marks.columns), program.top)
-
-
-def marks_by_place(marks):
-    """Return a dict from the places to their marks, columns first."""
-    return dict(list(zip(COLUMNS, marks.columns)) + list(zip(REGISTERS, marks.registers)))
-
-
-def written_with(marks, worths):
-    """Return the tuple of how numbers and nothing are written with these marks, one for each."""
-    return tuple([mark if worth is None else worth for worth, mark in zip(worths, marks)])
-
-
-def number_at(place, marks, held):
-    """Return the number that a place has, None if it is empty; marks and held are dicts from places."""
-    return None if held[place] == marks[place] else held[place]
-
-
-def is_over(one, other):
-    """Say whether what stands at one place and at another one are numbers, and the first one is greater."""
-    return one is not None and other is not None and one > other
-
-
-def plain_row(program, contents, row):
-    """Return the contents after a row that is given truly, and the list of what is told plainly."""
-    marks = marks_by_place(program.marks)
-    held = dict(zip(marks, written_with(program.marks.columns, row) + contents))
-    told, index = [], 0
-    while index < len(program.steps):
-        step = program.steps[index]
-        if step[0] == "tell":
-            told.append(number_at(step[1], marks, held))
-        index = index + 1 + do_step(step, program.top, marks, held)
-    return contents_of(held), told
-
-
-def contents_of(held):
-    """Return the tuple of what stands at each register."""
-    return tuple([held[place] for place in REGISTERS if place in held])
-
-
-def do_step(step, top, marks, held):
-    """Change by a step what is held at the places; return how many of the next steps are skipped."""
-    word, place = step[0], step[1]
-    if word in SKIPPING:
-        return step[-1] if _skips(step, marks, held) else 0
-    if word == "sort":
-        if is_over(held[place], held[step[2]]):
-            held[place], held[step[2]] = held[step[2]], held[place]
-    elif word == "copy":
-        held[place] = held[step[2]]
-    elif word != "tell" and (word != "else" or number_at(place, marks, held) is None):
-        worth = _gotten(step, top, marks, held)
-        held[place] = marks[place] if worth is None else worth
-    return 0
-
-
-def _skips(step, marks, held):
-    """Say whether the next steps are skipped by a step that can skip some."""
-    if step[0] == "lack":
-        return number_at(step[1], marks, held) is None
-    one, other = held[step[1]], held[step[2]]
-    return one == other if step[0] == "same" else is_over(one, other)
-
-
-def _gotten(step, top, marks, held):
-    """Return the number that a register gets by a step that writes, None if it gets nothing."""
-    word = step[0]
-    if word == "set":
-        return step[2]
-    if word in ("turn", "else"):
-        return number_at(step[2], marks, held)
-    if word == "find":
-        return None if held[step[2]] is None else step[3][held[step[2]]]
-    one, other = held[step[1]], held[step[2]]
-    return None if one is None or other is None else _reckoned(word, one, other, top)
-
-
-def _reckoned(word, one, other, top):
-    """Return what is reckoned of two numbers."""
-    if word == "plus":
-        return one + other if one + other < top else top
-    if word == "less":
-        return one - other if one > other else 0
-    if word == "most":
-        return one if one > other else other
-    return one if one < other else other
 
 
 def _are_marks(thing, top):
