@@ -17,8 +17,11 @@ SUMS = {"plus": lambda one, other, top: min(top, one + other), "less": lambda on
         "most": lambda one, other, top: max(one, other), "least": lambda one, other, top: min(one, other)}
 
 
-def true_run(program, stand, row):
-    """Return what each register has after a row, what is told truly, and the events, as [5] and [7] say."""
+def true_run(program, stand, row, tells=None):
+    """Return what each register has after a row, what is told truly, and the events, as [5] and [7] say.
+
+    For each thing that is told, the index of the step and the place are added to a list of tells.
+    """
     mark = {place: program.marks[place] for place in places_of(program)}
     has = dict(zip(COLUMNS, row)) | dict(zip(REGISTERS, stand))
     told, events, index = [], [], 0
@@ -90,12 +93,17 @@ def true_run(program, stand, row):
         elif word == "tell":
             read(*parts)
             told.append(has[parts[0]])
+            if tells is not None:
+                tells.append((index, parts[0]))
         index += 1 + skipped
     return tuple(has[place] for place in REGISTERS[:len(stand)]), told, events
 
 
-def plain_run(program, contents, row):
-    """Return what stands at each register after a row, and what is told plainly, as [6] says."""
+def plain_run(program, contents, row, stands=None):
+    """Return what stands at each register after a row, and what is told plainly, as [6] says.
+
+    What stands at each place that is told is added to a list of stands.
+    """
     mark = {place: program.marks[place] for place in places_of(program)}
     at = {place: mark[place] if number is None else number for place, number in zip(COLUMNS, row)}
     at |= dict(zip(REGISTERS, contents))
@@ -139,6 +147,8 @@ def plain_run(program, contents, row):
             skipped = n if not own_object(p, q) and at[p] > at[q] else 0
         elif word == "tell":
             told.append(None if empty(parts[0]) else at[parts[0]])
+            if stands is not None:
+                stands.append(at[parts[0]])
         index += 1 + skipped
     return tuple(at[place] for place in REGISTERS[:len(contents)]), told
 
