@@ -1,4 +1,4 @@
-"""What kind a thing is: the tests that several files need."""
+"""What kind a thing is, and choices: what several files need."""
 
 
 def is_integer(thing):
@@ -38,3 +38,18 @@ def told_apart(thing):
     if isinstance(thing, dict):
         return {told_apart(key): told_apart(worth) for key, worth in thing.items()}
     return thing
+
+
+def is_ascending(thing, many):
+    """Say whether a thing, whatever it is, is an ascending tuple of indices of so many things."""
+    if not isinstance(thing, tuple) or not all([is_between(index, 0, many - 1) for index in thing]):
+        return False
+    return all([index < behind for index, behind in zip(thing, thing[1:])])
+
+
+def choices_of(indices):
+    """Return the list of all choices of some of these ascending indices, of none and of all, too, as tuples ordered."""
+    found = [()]
+    for index in indices[::-1]:
+        found = [()] + [(index,) + choice for choice in found] + found[1:]
+    return found

@@ -1,8 +1,7 @@
 """Mending: the cheapest tests, other marks and own objects, after which no event can happen in a program."""
 
-from lackmark.choices import choices_of, is_ascending
 from lackmark.errors import BadChoice, BadOffers, BadProgram
-from lackmark.kinds import is_between, told_apart
+from lackmark.kinds import choices_of, is_ascending, is_between, told_apart
 from lackmark.programs import OPERANDS, Program, SKIPPING, are_data_for, check_program
 from lackmark.spoiling import Never, ends_with, happen
 
@@ -53,7 +52,7 @@ def after(program, offers, choice):
     """Return the program after a choice."""
     check_program(program)
     _check_offers(program, offers)
-    found = _changed(program, offers, choice) if is_ascending(choice, len(offers)) else None
+    found = _mended_by(program, offers, choice) if is_ascending(choice, len(offers)) else None
     if found is None:
         raise BadChoice("not a choice, or not a possible one")
     return found
@@ -114,13 +113,13 @@ def _possible(program, offers):
     found = {}
     for price in range(MOST_OFFERS * MOST_PRICE + 1):
         for choice in by_price.get(price, []):
-            changed = _changed(program, offers, choice)
+            changed = _mended_by(program, offers, choice)
             if changed is not None:
                 found[choice] = changed
     return found
 
 
-def _changed(program, offers, choice):
+def _mended_by(program, offers, choice):
     """Return the program after a choice, None if it is none."""
     changes, tested = {}, {}
     for offer in [offers[index] for index in choice]:

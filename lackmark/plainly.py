@@ -67,12 +67,11 @@ def _turning(step, behind, plan):
 
 def _turning_if_empty(step, behind, plan):
     """Return the function for a step that turns if its register is empty."""
-    turn, mark = _turning(step, behind, plan), plan[1][step[1]]
-    to = plan[0][step[1]]
+    work_if_empty, to, mark = _turning(step, behind, plan), plan[0][step[1]], plan[1][step[1]]
 
     def work(held, told):
         worth = held[to]
-        return turn(held, told) if worth is None or worth == mark else behind
+        return work_if_empty(held, told) if worth is None or worth == mark else behind
     return work
 
 

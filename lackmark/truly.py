@@ -53,10 +53,10 @@ def _getting(step, index, plan):
 
 def _getting_if_empty(step, index, plan):
     """Return the function for a step that turns if its register is empty."""
-    turn, to, behind = _getting(step, index, plan), plan[0][step[1]], index + 1
+    work_if_empty, to, behind = _getting(step, index, plan), plan[0][step[1]], index + 1
 
     def work(held, told, events):
-        return turn(held, told, events) if held[to] is None else behind
+        return work_if_empty(held, told, events) if held[to] is None else behind
     return work
 
 
@@ -216,10 +216,10 @@ def _telling(step, index, plan):
 
 def _telling_with_index(step, index, plan):
     """Return the function for a step that tells, beside it, what its index is."""
-    tell = _telling(step, index, plan)
+    work_before = _telling(step, index, plan)
 
     def work(held, told, events):
-        behind = tell(held, told, events)
+        behind = work_before(held, told, events)
         told[-1] = (index, told[-1])
         return behind
     return work

@@ -30,6 +30,7 @@ LIBRARY = {"math": "gcd lcm isqrt comb perm factorial".split(), "collections": [
            "itertools": "product combinations permutations chain accumulate pairwise islice zip_longest".split()}
 NEVER_NODES = (ast.Global, ast.AsyncFunctionDef, ast.AsyncFor, ast.AsyncWith, ast.Await, ast.Div, ast.MatMult,
                ast.GeneratorExp, ast.TypeAlias if hasattr(ast, "TypeAlias") else ast.Global)
+CHANGING = "append clear extend insert pop remove reverse setdefault update add discard sort".split()
 ALSO_TOUCHED = ("__name__", "__class__", "__init__")
 
 
@@ -148,6 +149,92 @@ class TestLanguage(unittest.TestCase):
                 found = [ast.unparse(part) for part in node.args] + [ast.unparse(part) for part in node.keywords]
                 plain = r"^(\[?(len|int|ord|str|repr)\(|\d+$|range\(|key=(len|int|str)$)"
                 self.assertTrue(any(re.match(plain, text) for text in found), (path, node.lineno))
+
+    def test_l5_no_augmented_assignments(self):
+        # Sessions have an in-place operator, so that `+=` could be taken for it.
+        self.assertEqual(self.of_kind(ast.AugAssign), [])
+
+    def test_l5_properties_are_not_assigned(self):
+        names = {node.name for _, node in self.of_kind(ast.FunctionDef)
+                 if "property" in [ast.unparse(decorator) for decorator in node.decorator_list]}
+        self.assertIn("rows", names)
+        for path, node in self.of_kind(ast.Attribute):
+            if isinstance(node.ctx, (ast.Store, ast.Del)):
+                self.assertNotIn(node.attr, names, (path, node.lineno))
+
+    def test_l5_operators_change_nothing(self):
+        # By their names, all functions that an operator, a property or a comparison calls, and those that these call.
+        functions = {}
+        for _, node in self.of_kind(ast.FunctionDef):
+            functions.setdefault(node.name, []).append(node)
+        special = [f"__{name}__" for name in DUNDERS if name not in ("init", "call", "enter", "exit", "iadd", "iter")]
+        ahead = [node for _, node in self.of_kind(ast.FunctionDef)
+                 if node.name in special or node.decorator_list]
+        seen = []
+        while ahead:
+            node = ahead.pop()
+            seen.append(node)
+            for part in ast.walk(node):
+                self.assertNotIsInstance(part, (ast.Delete, ast.Nonlocal), node.name)
+                if isinstance(part, (ast.Subscript, ast.Attribute)):
+                    self.assertIsInstance(part.ctx, ast.Load, (node.name, ast.unparse(part)))
+                if isinstance(part, ast.Call) and isinstance(part.func, ast.Attribute):
+                    self.assertNotIn(part.func.attr, CHANGING, (node.name, ast.unparse(part)))
+                called = ast.unparse(part.func).split(".")[-1] if isinstance(part, ast.Call) else None
+                if called in functions and called != "__init__":
+                    ahead = ahead + [other for other in functions[called] if other not in seen + ahead]
+        self.assertGreater(len(seen), 40)
+
+    def test_l6_l28_ends_of_with_blocks(self):
+        ends = [node for _, node in self.of_kind(ast.FunctionDef) if node.name == "__exit__"]
+        self.assertEqual(len(ends), 1)
+        for line in ends[0].body:
+            self.assertRegex(ast.unparse(line), r"^(session = self\.session|session\.\w+ = session\.\w+\.\w+)$")
+        self.assertEqual(ast.unparse(ends[0].args), "self, kind, value, trace")
+
+    def test_l18_l26_names_of_methods_and_attributes(self):
+        methods = {item.name for _, node in self.of_kind(ast.ClassDef) for item in node.body
+                   if isinstance(item, ast.FunctionDef)}
+        attributes = {node.attr for _, node in self.of_kind(ast.Attribute) if isinstance(node.ctx, ast.Store)}
+        self.assertEqual(methods & attributes, set())
+        builtin = {name for kind in (str, int, list, dict, set, bytes, tuple) for name in dir(kind)}
+        self.assertEqual((methods - {f"__{name}__" for name in DUNDERS} | attributes) & builtin, set())
+        # A method is called where it stands.
+        for path, tree in self.trees.items():
+            called = {id(node.func) for node in ast.walk(tree) if isinstance(node, ast.Call)}
+            for node in ast.walk(tree):
+                if isinstance(node, ast.Attribute) and node.attr in methods | set(METHODS):
+                    plain = [name for _, name in self.of_kind(ast.FunctionDef)
+                             if name.name == node.attr and not name.decorator_list]
+                    if plain:
+                        self.assertIn(id(node), called, (path, node.lineno))
+
+    def test_l3_tables(self):
+        for path, tree in self.trees.items():
+            known = {node.name for node in tree.body if isinstance(node, ast.FunctionDef)}
+            for node in [node for node in tree.body if isinstance(node, ast.Assign)]:
+                for part in ast.walk(node.value):
+                    self.assertIsInstance(part, (ast.Constant, ast.Tuple, ast.Dict, ast.Name, ast.UnaryOp, ast.USub,
+                                                 ast.Load), (path, node.lineno))
+                    if isinstance(part, ast.Name):
+                        self.assertIn(part.id, known, (path, node.lineno))
+
+    def test_l7_lists_for_all_and_any(self):
+        for path, node in self.of_kind(ast.Call):
+            if isinstance(node.func, ast.Name) and node.func.id in ("all", "any", "sum"):
+                self.assertIsInstance(node.args[0], (ast.ListComp, ast.Name, ast.Subscript), (path, node.lineno))
+
+    def test_l22_as_many_arguments_as_are_taken(self):
+        functions = {}
+        for path, tree in self.trees.items():
+            functions.update({node.name: node.args for node in tree.body if isinstance(node, ast.FunctionDef)
+                              if node.name not in functions or not node.name.startswith("_")})
+        for path, node in self.of_kind(ast.Call):
+            if isinstance(node.func, ast.Name) and node.func.id in functions and not node.func.id.startswith("_"):
+                args = functions[node.func.id]
+                most, least = len(args.args), len(args.args) - len(args.defaults)
+                self.assertTrue(least <= len(node.args) <= most, (path, node.lineno))
+                self.assertLessEqual({word.arg for word in node.keywords}, {arg.arg for arg in args.kwonlyargs})
 
     def test_l6_l7_statements_and_expressions(self):
         for path, node in self.nodes:
