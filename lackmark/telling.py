@@ -25,8 +25,9 @@ class Told:
         _check_wish(program, wish)
         if not are_data_for(program, self.data) or not are_floors(program, self.floors):
             return False
-        first, many = first_contents(program), len(self.data)
-        if many == 0 or first not in self.floors or self.floors[first] != many:
+        # Floors are at least 1, so that there is a last row if they fit.
+        first = first_contents(program)
+        if first not in self.floors or self.floors[first] != len(self.data):
             return False
         told = program(self.data)
         return told[-1] == list(wish) and are_above(self.floors, PlainMoves(program), _counting(wish))

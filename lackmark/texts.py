@@ -58,9 +58,10 @@ def read_program(text):
         parts.append(_parts_of(words))
     if rest != "" or len(lines) <= len(HEADS):
         raise BadText(len(lines))
-    top, columns, marks, begin = parts[:len(HEADS)]
+    top, columns, registers, begin = parts[:len(HEADS)]
+    marks, steps = Marks(columns[1:], registers[1:]), tuple(parts[len(HEADS):])
     try:
-        return Program(top[1], Marks(columns[1:], marks[1:]), begin[1:], tuple(parts[len(HEADS):]))
+        return Program(top[1], marks, begin[1:], steps)
     except BadProgram:
         raise BadText(0) from None
 

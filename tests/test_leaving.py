@@ -273,6 +273,13 @@ class TestShows(TestCase):
         doubts = {part: right[part] for part in reversed(right)}
         self.assertIs(self.other(doubts=doubts).shows(SLACK, self.choice), True)
 
+    def test_as_many_doubts_about_other_choices(self):
+        right = self.found.doubts
+        for part in [(1, 3), (0,), (0, 1, 2), (0, 2, 3), (), (9,)]:
+            for left in right:
+                doubts = {other: right[other] for other in right if other != left} | {part: right[left]}
+                self.assertIs(self.other(doubts=doubts).shows(SLACK, self.choice), False)
+
     def test_booleans_are_no_indices(self):
         for part in [(False, 1, 3), (0, True, 3)]:
             doubts = {part if other == (0, 1, 3) else other: parted for other, parted in self.found.doubts.items()}

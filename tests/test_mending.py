@@ -226,6 +226,15 @@ class TestMend(TestCase):
                          [(), (1,), (2,), (4,), (1, 2), (1, 4), (2, 4), (3,), (0,)])
         self.assertEqual(len(found.doubts), 32)
 
+    def test_the_greatest_prices(self):
+        found = mend(WRONG, (("own", 0, 9),) * 5)
+        self.assertEqual([len(found.doubts), list(found.doubts)[-1]], [32, (0, 1, 2, 3, 4)])
+        marks = Marks((0, 0), (0, 0, 0))
+        program = Program(2, marks, (None,) * 3, (("tell", 0), ("tell", 1), ("tell", "a"), ("plus", "b", "c"),
+                                                  ("turn", "a", 1)))
+        offers = tuple(("own", place, 9) for place in [0, 1, "a", "b", "c"])
+        self.assertEqual([least_price(program, offers), mend(program, offers).choice], [45, (0, 1, 2, 3, 4)])
+
     def test_choices_that_are_not_possible_are_left_out(self):
         offers = ("mark", "a", 1, 1), ("own", 0, 1), ("own", "a", 5)
         found = mend(WRONG, offers)
@@ -353,6 +362,14 @@ class TestShows(TestCase):
         for choice in [(0, 1), (1, 2), (0, 2), (0, 1, 2), (3,), (1, 0), (0, 0), (10,), ("a",), (None,), (-1,)]:
             for data in [Data.of((0,)), Data.of((None,))]:
                 self.assertIs(Mended((0, 2), self.found.never, right | {choice: data}).shows(WRONG, OFFERS), False)
+
+    def test_as_many_doubts_about_other_choices(self):
+        data = Data.of((0,))
+        for choice in [(0, 1), (0, 2), (0, 1, 2), (3,), (4,)]:
+            for left in self.found.doubts:
+                doubts = {other: self.found.doubts[other] for other in self.found.doubts if other != left}
+                self.assertIs(Mended((0, 2), self.found.never, doubts | {choice: data}).shows(WRONG, OFFERS), False)
+        self.assertIs(Hopeless({(): data, (1,): data}).shows(WRONG, OFFERS[:1]), False)
 
     def test_booleans_are_no_indices(self):
         doubts = {(True,) if choice == (1,) else choice: data for choice, data in self.found.doubts.items()}
